@@ -1,0 +1,1 @@
+"""Overwise: dividing on a machine that has no divider."""
