@@ -54,7 +54,7 @@ class Kind:
         if not is_between(count, self.least(), self.greatest()):
             raise NoText(text)
         bits = self.bits_of(count)
-        # One value can be written in several ways; only the one that is shown counts.
+        # A text may tell a value in another way than it is shown, or one that lies between two counts.
         if self.shown(bits) != text:
             raise NoText(text)
         return bits
@@ -143,7 +143,7 @@ def figures_behind(rest, point):
 
 
 def count_in(text, point):
-    """The count that figures, perhaps with a sign and a point, tell with this many bits behind the point, or None."""
+    """The count, cut where it is not whole, that figures with or without a sign and a point tell, or None."""
     if not isinstance(text, str) or len(text) > LONGEST_SHOWN:
         return None
     negative = text.startswith("-")
@@ -154,8 +154,6 @@ def count_in(text, point):
     worth = 1
     for figure in parts[2]:
         worth = worth * 10
-    if (number << point) % worth != 0:
-        return None
     count = (number << point) // worth
     return -count if negative else count
 

@@ -106,3 +106,82 @@ class Case(unittest.TestCase):
             for one in thing.values():
                 found = found + self.boxes(one)
         return found
+
+
+def prices_of(**other):
+    """A table of prices, 1 for each row's word but those that are told otherwise."""
+    words = "set copy sum gap low high left right slide and or unlike under pick mark turns".split()
+    table = {word: 1 for word in words}
+    table.update({word.rstrip("_"): price for word, price in other.items()})
+    return table
+
+
+# Tables that put the forms in very different orders, equal prices among them.
+TABLES = [
+    prices_of(),
+    {word: 0 for word in prices_of()},
+    {word: 1000 for word in prices_of()},
+    prices_of(set=2, low=3, high=7, right=1, sum=1, gap=1),
+    prices_of(set=0, high=1000, low=1000),
+    prices_of(right=1000, slide=0),
+    prices_of(right=0, slide=1000, gap=0, sum=0, unlike=0),
+    prices_of(gap=1000, set=1, high=0),
+    prices_of(sum=1000),
+    prices_of(set=1000, high=1000, right=0, and_=1000),
+    prices_of(unlike=1000),
+    prices_of(low=0, sum=0, high=1, gap=3, right=5),
+]
+
+# Dicts and other things that are no tables of prices.
+NO_TABLES = [thing for thing in NO_NUMBERS] + [
+    0, 1, list(prices_of()), list(prices_of().items()), tuple(prices_of().items()),
+    {word: 1 for word in prices_of() if word != "set"}, {word: 1 for word in prices_of() if word != "turns"},
+    {word: 1 for word in prices_of() if word != "and"}, prices_of(set=-1), prices_of(turns=1001), prices_of(high=True),
+    prices_of(low=False), prices_of(mark=None), prices_of(pick="1"), prices_of(copy=[1]), prices_of(under=10 ** 39),
+    prices_of(or_=(1,)), {word.upper(): 1 for word in prices_of()},
+]
+
+
+def walked(width, d, reckoning):
+    """The least word that a reckoning brings to another number than its quotient, by a walk of all words, or None."""
+    early, factor, addend, total = reckoning
+    for x in range(2 ** width):
+        if (factor * (x // 2 ** early) + addend) // 2 ** total != x // d:
+            return x
+    return None
+
+
+def by_blocks(width, d, reckoning):
+    """The same without a walk: the first block of words with one quotient in which a word is wrong, by two inequalities."""
+    early, factor, addend, total = reckoning
+    power, last, part = 2 ** total, 2 ** width - 1, d // 2 ** early
+    step = factor * part - power
+    over = power - addend - factor * (part - 1)
+    blocks = []
+    if step < 0:
+        blocks.append(addend // -step + 1)
+    if over <= 0:
+        blocks.append(0)
+    elif step > 0:
+        blocks.append(-(-over // step))
+    wrong = []
+    for q in blocks:
+        if factor * q * part + addend < q * power:
+            wrong.append(q * d)
+        elif factor > 0:
+            wrong.append(max(q * d, -(-((q + 1) * power - addend) // factor) * 2 ** early))
+        else:
+            wrong.append(q * d)
+    # The last block may be cut off ahead of the word that is wrong in it.
+    wrong = [x for x in wrong if x <= last]
+    return min(wrong) if wrong else None
+
+
+def great_divisors(width):
+    """Told divisors of a great width: its ends, powers of two and their neighbours, and some between."""
+    size = 2 ** width
+    found = {1, 2, 3, 5, 6, 7, 9, 10, 11, 12, 14, 21, 25, 28, 60, 100, 125, 127, 641, 1000, 6700417, 10 ** 6, 10 ** 9}
+    for k in range(width):
+        found |= {2 ** k - 1, 2 ** k, 2 ** k + 1}
+    found |= {size - 1, size - 2, size - 3, size // 2 - 1, size // 2 + 1, size // 2 + 2, size // 3, size // 3 + 1, size // 7}
+    return sorted(d for d in found if 1 <= d < size)

@@ -198,6 +198,13 @@ class Figures(Case):
                          "1" * 5000, "0." + "5" * 5000]:
                 self.refused(NoText, {"found": text}, kind.read, text)
 
+    def test_a_text_of_any_length(self):
+        for kind in (Plain(4), Pointed(32, 31)):
+            for text in ("1" * 300_000, "0." + "0" * 300_000, "-" + "7" * 300_000):
+                with self.assertRaises(NoText) as refusal:
+                    counted(kind.read, text, most=100_000)
+                self.same(refusal.exception.found, text)
+
     def test_one_beyond_the_ends(self):
         for width in (4, 9, 31, 32):
             self.refused(NoText, {"found": str(2 ** width)}, Plain(width).read, str(2 ** width))

@@ -53,9 +53,7 @@ def package_classes():
 
 class Rules(unittest.TestCase):
     def each(self):
-        for file in files():
-            with self.subTest(file=file.name):
-                yield file, file.read_text(encoding="utf-8"), tree_of(file)
+        return [(file, file.read_text(encoding="utf-8"), tree_of(file)) for file in files()]
 
     def test_files_and_signs(self):
         for thing in PACKAGE.iterdir():
@@ -225,6 +223,8 @@ class Rules(unittest.TestCase):
             for node in named(tree, ast.FunctionDef):
                 self.assertFalse(node.decorator_list or node.returns)
                 self.assertFalse(node.args.vararg or node.args.kwarg or node.args.kwonlyargs or node.args.posonlyargs)
+            lambdas = [(node.lineno, ast.dump(node.args)) for node in named(tree, ast.Lambda)]
+            self.assertEqual(len(lambdas), len(set(lambdas)))
             for node in named(tree, ast.ListComp):
                 self.assertEqual(len(node.generators), 1)
                 self.assertLessEqual(len(node.generators[0].ifs), 1)
