@@ -15,6 +15,9 @@ NO_NUMBERS = [
     [[[[[["deep"]]]]]], Plain(4), Pointed(8, 3), NothingBy(),
 ]
 
+# Things of every kind that are no widths.
+NO_WIDTHS = NO_NUMBERS + [3, 33, 0, -4, -32, 10 ** 39, -(10 ** 39)]
+
 
 def same(one, other):
     """Whether two things are equal and of the same kinds all through, dicts with their keys in the same order."""
@@ -177,6 +180,11 @@ def by_blocks(width, d, reckoning):
     return min(wrong) if wrong else None
 
 
+def no_divisors(width):
+    """Things of every kind that are no told divisors of a width."""
+    return NO_NUMBERS + [0, -1, 2 ** width, 2 ** width + 1, 10 ** 39, -(10 ** 39)]
+
+
 def great_divisors(width):
     """Told divisors of a great width: its ends, powers of two and their neighbours, and some between."""
     size = 2 ** width
@@ -185,3 +193,22 @@ def great_divisors(width):
         found |= {2 ** k - 1, 2 ** k, 2 ** k + 1}
     found |= {size - 1, size - 2, size - 3, size // 2 - 1, size // 2 + 1, size // 2 + 2, size // 3, size // 3 + 1, size // 7}
     return sorted(d for d in found if 1 <= d < size)
+
+
+def words_of(width, number):
+    """The long of a number, by Python's own figures."""
+    words = []
+    while number:
+        number, word = divmod(number, 2 ** width)
+        words.append(word)
+    return words
+
+
+def no_longs(width):
+    """Things of every kind that are no longs of a width."""
+    size = 2 ** width
+    return [thing for thing in NO_NUMBERS if thing != [] and thing != [4]] + [
+        0, 1, -1, 10 ** 39, [0], [1, 0], [0, 0], [1, 2, 0], [size], [1, size], [-1], [-1, 1], [1, -1], [True], [1, True],
+        [False, 1], [1, False], [None], [1, None], ["1"], ["1", 1], [[1]], [1, [1]], [(1,)], [1, {}], [Plain(4)], (1, 2),
+        (1,), {0: 1}, "12", [1, 2, [], 1], [10 ** 39, 1],
+    ]

@@ -3,14 +3,11 @@ import unittest
 from overwise.choice import candidates, choose, form_words, least_total, line_at, price_of_form, why_none
 from overwise.errors import NoDivisor, NoPrices, NoWidth
 from overwise.forms import Early, More, Scaled, Shifted, Wide, is_right, is_wrong_word
-from tests.helper import NO_NUMBERS, NO_TABLES, TABLES, Case, by_blocks, counted, great_divisors, prices_of, walked
+from tests.helper import (
+    NO_TABLES, NO_WIDTHS, TABLES, Case, by_blocks, counted, great_divisors, no_divisors, prices_of, walked,
+)
 
-NO_WIDTHS = NO_NUMBERS + [3, 33, 0, -4, 10 ** 39]
 KINDS = {"shifted": Shifted, "scaled": Scaled, "early": Early, "more": More, "wide": Wide}
-
-
-def no_divisors(width):
-    return NO_NUMBERS + [0, -1, 2 ** width, 2 ** width + 1, 10 ** 39, -(10 ** 39)]
 
 
 def up(top, bottom):

@@ -6,17 +6,12 @@ from overwise.forms import (
     Early, Form, More, Scaled, Shifted, Wide, brought, corner_words, corners_to, is_right, is_wrong_word, need_divisor,
     reckoning_is_right, reckoning_wrong, twos_in, wrong_word,
 )
-from tests.helper import NO_NUMBERS, Case, by_blocks, counted, great_divisors, same, walked
+from tests.helper import NO_NUMBERS, NO_WIDTHS, Case, by_blocks, counted, great_divisors, no_divisors, same, walked
 
-NO_WIDTHS = NO_NUMBERS + [3, 33, 0, -4, 10 ** 39]
 MOST_FACTOR = 2 ** 32 - 1
 NO_FACTORS = NO_NUMBERS + [-1, 2 ** 32, 10 ** 39, -(10 ** 39)]
 NO_SHIFTS = NO_NUMBERS + [-1, 65, 10 ** 39, -(10 ** 39)]
 SOME_FORMS = [Shifted(0), Shifted(64), Scaled(0, 0), Scaled(MOST_FACTOR, 64), Early(0, 5, 1), More(11, 3), Wide(5, 1)]
-
-
-def no_divisors(width):
-    return NO_NUMBERS + [0, -1, 2 ** width, 2 ** width + 1, 10 ** 39, -(10 ** 39)]
 
 
 def twos(d):

@@ -3,9 +3,8 @@ from fractions import Fraction
 
 from overwise.errors import NoKind, NoText, NoWidth, NoWord
 from overwise.kinds import Kind, Plain, Pointed, Signed, same_kind
-from tests.helper import NO_NUMBERS, Case, counted
+from tests.helper import NO_NUMBERS, NO_WIDTHS, Case, counted
 
-NO_WIDTHS = NO_NUMBERS + [3, 33, 0, -4, 10 ** 39, -10 ** 39]
 
 
 def kinds_of(width):

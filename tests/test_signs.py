@@ -7,9 +7,10 @@ from overwise.signs import (
     Cutting, SignedForm, Turned, is_wrong_count, need_signed_divisor, price_of_signed, right_for_signed,
     signed_candidates, signed_choose, signed_corners, signed_corners_to, signed_words, signed_wrong,
 )
-from tests.helper import NO_NUMBERS, NO_TABLES, TABLES, Case, by_blocks, counted, great_divisors, prices_of, same
+from tests.helper import (
+    NO_NUMBERS, NO_TABLES, NO_WIDTHS, TABLES, Case, by_blocks, counted, great_divisors, prices_of, same,
+)
 
-NO_WIDTHS = NO_NUMBERS + [3, 33, 0, -4, 10 ** 39]
 MOST_FACTOR = 2 ** 32 - 1
 SOME_FORMS = [
     Cutting(0, 0), Cutting(11, 1), Cutting(MOST_FACTOR, 64), Turned(Shifted(2)), Turned(Early(0, 5, 1)),

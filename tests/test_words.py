@@ -5,10 +5,9 @@ from overwise.kinds import Plain, Pointed, Signed
 from overwise.words import (
     bits_in, figures_of, gap_of, high_product, is_whole, left, low_product, need_width, right, slide, sum_of,
 )
-from tests.helper import NO_NUMBERS, Case
+from tests.helper import NO_NUMBERS, NO_WIDTHS, Case
 
 EDGES = [0, 1, 2, 3, 2 ** 31 - 1, 2 ** 31, 2 ** 31 + 1, 2 ** 32 - 2, 2 ** 32 - 1, 2 ** 16, 2 ** 16 - 1, 0xDEADBEEF]
-NO_WIDTHS = NO_NUMBERS + [3, 33, 0, -4, -32, 10 ** 39, -10 ** 39]
 
 
 class WholeNumbers(Case):
