@@ -1,7 +1,7 @@
 """The plain run of a program: what its rows put, in whole numbers and with a divider at hand."""
 
 from overwise.errors import NoInput
-from overwise.source import Repeat
+from overwise.source import rows_done
 from overwise.ways import way_of
 from overwise.words import is_word
 
@@ -17,15 +17,6 @@ class PlainRun:
         self.words = taken_in(program, inputs)
         self.marks = []
         self.puts = []
-
-    def do_rows(self, rows):
-        """Do rows and loops, one behind the other."""
-        for row in rows:
-            if isinstance(row, Repeat):
-                for turn in range(row.times):
-                    self.do_rows(row.rows)
-            else:
-                self.do_row(row)
 
     def do_row(self, row):
         """Do a row: read all that it reads, then put what it brings."""
@@ -115,7 +106,8 @@ def number_by_numbers(row, x):
 def done(program, inputs):
     """A run of a program, behind its last row."""
     state = PlainRun(program, inputs)
-    state.do_rows(program.rows)
+    for row in rows_done(program.rows):
+        state.do_row(row)
     return state
 
 

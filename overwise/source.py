@@ -44,6 +44,30 @@ class Repeat:
         self.rows = []
 
 
+def rows_of(rows):
+    """All rows one behind the other, those within loops once."""
+    found = []
+    for row in rows:
+        if isinstance(row, Repeat):
+            found.extend(rows_of(row.rows))
+        else:
+            found.append(row)
+    return found
+
+
+def rows_done(rows):
+    """All rows in the order in which a run does them, those within loops as often as they are done [76]."""
+    found = []
+    for row in rows:
+        if isinstance(row, Repeat):
+            inner = rows_done(row.rows)
+            for turn in range(row.times):
+                found.extend(inner)
+        else:
+            found.append(row)
+    return found
+
+
 class Draft:
     """What the lines ahead have told in the first walk [73]."""
 

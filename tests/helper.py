@@ -5,7 +5,7 @@ import sys
 import unittest
 
 from overwise.errors import NothingBy
-from overwise.kinds import Plain, Pointed
+from overwise.kinds import Plain, Pointed, Signed
 
 MOST_STEPS = 2_000_000
 
@@ -212,3 +212,86 @@ def no_longs(width):
         [False, 1], [1, False], [None], [1, None], ["1"], ["1", 1], [[1]], [1, [1]], [(1,)], [1, {}], [Plain(4)], (1, 2),
         (1,), {0: 1}, "12", [1, 2, [], 1], [10 ** 39, 1],
     ]
+
+
+WAYS = ("down", "up", "cut", "near")
+TWO_ALIKE = ("add", "sub", "addstop", "substop", "less", "same")
+ALL_DEEDS = TWO_ALIKE + ("set", "copy", "pick", "low", "high", "left", "right", "div", "rest", "over", "times", "mul", "part")
+
+
+def edge_words(width):
+    """Words at and about the ends of each kind, and some between."""
+    half = 2 ** (width - 1)
+    words = {0, 1, 2, 3, half - 2, half - 1, half, half + 1, half + 2, 2 * half - 3, 2 * half - 2, 2 * half - 1, half // 3, 5 * half // 3}
+    return sorted(word % (2 * half) for word in words)
+
+
+def drawn_number(source, most):
+    """A number from 1 on, often small, about a power of two, or about the end."""
+    near = 2 ** source.randrange(most.bit_length())
+    found = source.choice([1, 2, 3, 5, 7, 10, near, near - 1, near + 1, most, most - 1, source.randint(1, most)])
+    return min(max(1, found), most)
+
+
+class Drawing:
+    """A drawn program: words of each kind by these names, rows and loops of any deeds."""
+
+    def __init__(self, source, width, deeds=ALL_DEEDS):
+        self.source = source
+        self.width = width
+        self.deeds = deeds
+        point = source.randrange(1, width)
+        self.kinds = {
+            "a": "plain", "b": "plain", "c": "plain", "s": "signed", "t": "signed", "p": f"point {point}", "q": f"point {point}",
+        }
+
+    def name(self, kind):
+        return self.source.choice([name for name in self.kinds if self.kinds[name] == kind])
+
+    def row(self):
+        source, width = self.source, self.width
+        deed, kind = source.choice(self.deeds), source.choice(sorted(set(self.kinds.values())))
+        if deed in ("low", "high", "over", "rest", "part"):
+            kind = "plain"
+        if deed == "mul":
+            kind = self.kinds["p"]
+        one, other, goal = self.name(kind), self.name(kind), self.name("plain" if deed in ("less", "same") else kind)
+        number = drawn_number(source, 2 ** width - 1 if kind == "plain" else 2 ** (width - 1))
+        shift, way = source.randrange(width), source.choice(WAYS)
+        if deed == "part":
+            goals = source.sample(["a", "b", "c"], 2)
+            return f"{goals[0]} {goals[1]} = part {one} {number}"
+        return f"{goal} = {deed} " + {
+            "set": lambda: f"{kind} {self.figures(kind)}", "copy": lambda: one, "pick": lambda: f"{self.name('plain')} {one} {other}",
+            "left": lambda: f"{one} {shift}", "right": lambda: f"{one} {shift}", "div": lambda: f"{one} {number} {way}",
+            "rest": lambda: f"{one} {number}", "times": lambda: f"{one} {source.randint(0, number)}/{number} {way}",
+            "mul": lambda: f"{one} {other} {way}",
+        }.get(deed, lambda: f"{one} {other}")()
+
+    def figures(self, kind):
+        words = kind.split(" ")
+        made = {"plain": Plain, "signed": Signed}.get(words[0])
+        made = made(self.width) if made else Pointed(self.width, int(words[1]))
+        return made.shown(self.word())
+
+    def word(self):
+        return self.source.choice(edge_words(self.width) + [self.source.randrange(2 ** self.width) for some in range(6)])
+
+    def rows(self, many, deep):
+        lines = []
+        for some in range(self.source.randint(1, many)):
+            if deep < 3 and self.source.random() < 0.15:
+                lines += [f"repeat {self.source.randint(1, 4)}"] + self.rows(3, deep + 1) + ["end"]
+            else:
+                lines.append(self.row())
+        return lines
+
+    def text(self, many):
+        ins = [f"in {name} {kind}" for name, kind in self.kinds.items()]
+        rows = self.rows(many, 0)
+        while len(rows) > 45:
+            rows = self.rows(many, 0)
+        return "\n".join([f"width {self.width}"] + ins + rows + [f"out {name}" for name in self.kinds])
+
+    def inputs(self):
+        return {name: self.word() for name in self.kinds}
