@@ -1,7 +1,8 @@
 """Lines of programs: rows and loops, and the first walk, which looks at each line and at where it stands."""
 
 from overwise.errors import NoProgram, NoText, TooMuch
-from overwise.kinds import Plain, Pointed, Signed, number_in
+from overwise.figures import whole_in
+from overwise.kinds import Plain, Pointed, Signed
 from overwise.ways import all_ways
 
 LETTERS = "abcdefghijklmnopqrstuvwxyz"
@@ -153,9 +154,7 @@ def is_name(word):
 
 def number_told(word, low, high):
     """The number that a text tells, None where it is no number from low to high [70]."""
-    if not 1 <= len(word) <= 10 or (word[0] == "0" and word != "0"):
-        return None
-    number = number_in(word)
+    number = whole_in(word, 10)
     return number if number is not None and low <= number <= high else None
 
 
