@@ -112,15 +112,19 @@ def part_steps(row, told):
     return steps + [Copy(row.goals[0], QUOTIENT), Copy(row.goals[1], REST)]
 
 
+def divided_name(kind, row):
+    """The name of what a rounded row divides: a plain word as it is, of another one its size."""
+    return row.reads[0] if kind.word() == "plain" else SIZE
+
+
 def rounded_steps(kind, row, quotient, rest):
-    """A quotient rounded by the way of a row: rows for the quotient and for the rest of a size, by the name of it."""
+    """A quotient rounded by the way of a row, of the rows for the quotient and those for the rest behind it."""
     signed = kind.word() != "plain"
-    one = SIZE if signed else row.reads[0]
     steps = size_steps(kind.width, row.reads[0], SIGN, MASK, SIZE) if signed else []
-    steps = steps + quotient(one)
+    steps = steps + quotient
     further = adjust_steps(row.way, signed)
     if further != []:
-        steps = steps + rest(one) + further
+        steps = steps + rest + further
     return steps + (sign_back_steps(row.goals[0], QUOTIENT) if signed else [Copy(row.goals[0], QUOTIENT)])
 
 
@@ -128,10 +132,8 @@ def div_steps(kind, row, paper):
     """A quotient by a told number, rounded."""
     if paper[0] == "signed":
         return signed_form_steps(kind.width, paper[1], row.goals[0], row.reads[0])
-    number = row.numbers[0]
-    return rounded_steps(
-        kind, row, lambda one: form_steps(paper[1], QUOTIENT, one), lambda size: rest_steps(size, number),
-    )
+    one = divided_name(kind, row)
+    return rounded_steps(kind, row, form_steps(paper[1], QUOTIENT, one), rest_steps(one, row.numbers[0]))
 
 
 def fraction_steps(width, paper, one):
@@ -158,11 +160,11 @@ def times_steps(kind, row, paper):
     """A product by a fraction, rounded."""
     if paper[0] == "copy":
         return [Copy(row.goals[0], row.reads[0])]
+    one = divided_name(kind, row)
     if paper[0] == "bits":
-        return rounded_steps(kind, row, lambda one: product_bit_steps(kind.width, row, one), lambda size: [])
-    return rounded_steps(
-        kind, row, lambda one: fraction_steps(kind.width, paper, one), lambda size: fraction_rest_steps(row, size),
-    )
+        # The rest is there already.
+        return rounded_steps(kind, row, product_bit_steps(kind.width, row, one), [])
+    return rounded_steps(kind, row, fraction_steps(kind.width, paper, one), fraction_rest_steps(row, one))
 
 
 def mul_product_steps(kind, row):

@@ -124,7 +124,7 @@ def adjust_steps(way, signed):
         ]
     else:
         steps = [Under(MORE, NOUGHT, REST)]
-        if signed and way == "down":
+        if way == "down":
             steps.append(And(MORE, MORE, SIGN))
         elif signed:
             steps.append(Under(MORE, SIGN, MORE))

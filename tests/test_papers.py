@@ -242,6 +242,22 @@ class OneThingOtherwise(Case):
                     self.assertIs(is_paper(program, 2, (paper[0], form.told(), refused), prices_of()), False)
                 self.assertIs(is_paper(program, 2, (paper[0], form.told(), paper[2]), prices_of()), False)
 
+    def test_a_wrong_form_with_all_that_stand_ahead_of_it(self):
+        for width, kind, row in self.PROGRAMS:
+            program = one_row(width, kind, row)
+            paper = paper_of(program, 2, prices_of())
+            for place in range(len(paper[2]) if len(paper) == 3 else 0):
+                self.assertIs(is_paper(program, 2, (paper[0], paper[2][place][0], paper[2][:place]), prices_of()), False)
+
+    def test_as_many_refused_ones_as_there_are_candidates_and_more(self):
+        program = one_row(8, "plain", "rest a 7")
+        paper = paper_of(program, 2, prices_of())
+        forms = sorted(candidates(8, 7), key=lambda form: price_of_form(form, prices_of()))
+        every = [(form.told(), walked(8, 7, form.numbers_in(8))) for form in forms]
+        for refused in (every, every[:-1], every + every[-1:], every * 2, paper[2] * 30, [None] * len(forms), [None] * 200):
+            for form in (paper[1], forms[-1].told(), None):
+                self.assertIs(is_paper(program, 2, (paper[0], form, refused), prices_of()), False)
+
     def test_things_of_every_kind(self):
         for width, kind, row in self.PROGRAMS:
             program = one_row(width, kind, row)

@@ -143,7 +143,8 @@ class Refused(Case):
         for text in ("end", "set a 1\nend", "turns 2\nend", "turns 2\nset a 1", "turns 2", "turns 2\nset a 1\nend\nend",
                      "turns 2\nturns 2\nset a 1\nend", "turns 2\nturns 2\nend\nend", "turns 2\nset a 1\nend 1", "turns 2\nset a 1\nEnd",
                      "end\nturns 2\nset a 1", "turns 2\nturns 2\nset a 1\nend\nend\nend", "turns\nset a 1\nend", "turns 2 2\nset a 1\nend",
-                     "turns -\nset a 1\nend", "turns a\nset a 1\nend"):
+                     "turns -\nset a 1\nend", "turns a\nset a 1\nend", "turns 65\nset a 1", "turns\nset a 1", "turns 0", "set a 1\nturns 01",
+                     "turns 1\n" * 6 + "set a 1" + "\nend" * 5):
             self.no_text(text)
 
     def test_words_that_are_none(self):
