@@ -23,6 +23,11 @@ def kinds_of(width):
     return ["plain", "signed"] + [f"point {point}" for point in sorted({1, 2, width // 2, width - 2, width - 1})]
 
 
+def words_at(width):
+    """All words of a small width, of a greater one those at and about the ends."""
+    return range(2 ** width) if width <= 5 else edge_words(width)
+
+
 def lists_in(steps):
     """All lists of rows, those within Turns too."""
     found = [steps]
@@ -80,7 +85,7 @@ class EachDeed(MakerCase):
         for width in WIDTHS:
             for kind in kinds_of(width):
                 for deed in TWO_ALIKE:
-                    self.looked_at(width, kind, f"{deed} a b", range(16) if width == 4 else edge_words(width))
+                    self.looked_at(width, kind, f"{deed} a b", words_at(width))
                     self.looked_at(width, kind, f"{deed} a a", edge_words(width))
                     self.looked_at(width, kind, f"{deed} b a", edge_words(width))
 
@@ -88,15 +93,15 @@ class EachDeed(MakerCase):
         for width in WIDTHS:
             for deed in ("low", "high", "over"):
                 for row in (f"{deed} a b", f"{deed} b a", f"{deed} a a"):
-                    self.looked_at(width, "plain", row, range(16) if width == 4 else edge_words(width))
+                    self.looked_at(width, "plain", row, words_at(width))
 
     def test_shifts_and_copies(self):
         for width in WIDTHS:
             for kind in kinds_of(width):
-                self.looked_at(width, kind, "copy a", edge_words(width))
+                self.looked_at(width, kind, "copy a", words_at(width))
                 for k in range(width):
-                    self.looked_at(width, kind, f"left a {k}", edge_words(width))
-                    self.looked_at(width, kind, f"right a {k}", edge_words(width))
+                    self.looked_at(width, kind, f"left a {k}", words_at(width))
+                    self.looked_at(width, kind, f"right a {k}", words_at(width))
 
     def test_pick(self):
         for width in WIDTHS:
@@ -155,14 +160,8 @@ class EachDeed(MakerCase):
         for width in WIDTHS:
             for kind in kinds_of(width)[2:]:
                 for way in WAYS:
-                    self.looked_at(width, kind, f"mul a b {way}", range(16) if width == 4 else edge_words(width))
+                    self.looked_at(width, kind, f"mul a b {way}", words_at(width))
                     self.looked_at(width, kind, f"mul a a {way}", edge_words(width))
-
-    def test_mul_about_the_ends_and_the_halves(self):
-        # Of width 5 all pairs: products that go beyond a word, just beyond an end, and just to a half among them.
-        for point in range(1, 5):
-            for way in WAYS:
-                self.looked_at(5, f"point {point}", f"mul a b {way}", range(32))
 
     def test_each_form(self):
         # A size is at most H, so that a turned form of another kind is never the first right one.
